@@ -1,0 +1,1 @@
+"""Crews: legs, duties, rests, rosters that keep rules."""
