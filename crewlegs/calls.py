@@ -4,9 +4,12 @@ Each takes the house, the call's plain arguments (with the members and legs
 themselves in place of their ids and places), and the call's rows.
 """
 
+from crewlegs.duties import cut_duties, longest_run
 from crewlegs.faults import fault_of
-from crewlegs.house import Leg, Member, Rules, minutes_of
+from crewlegs.house import Leg, Member, Rules, in_order, minutes_of
+from crewlegs.windows import flown_from, most_flown
 
+RANKS = (0, 1, 2)
 MOST_LEGS = 60
 MOST_MEMBERS = 30
 FIRST_DEP = 1440
@@ -39,6 +42,10 @@ def refusal_with(house, member, legs):
 
 def holders_of(house, leg, rank):
     return len([member for member in house.members.values() if member.rank == rank and leg in member.legs])
+
+
+def missing_in(house, leg, rank):
+    return max(0, leg.needs[rank] - holders_of(house, leg, rank))
 
 
 def pairs_of(row):
@@ -81,7 +88,7 @@ def call_assign(house, arguments, rows):
     leg = arguments[1]
     if leg in member.legs:
         return [WRONG_HOLDER]
-    if holders_of(house, leg, member.rank) >= leg.needs[member.rank]:
+    if missing_in(house, leg, member.rank) == 0:
         return [NOT_NEEDED]
     refusal = refusal_with(house, member, member.legs + [leg])
     if refusal < 0:
@@ -156,6 +163,64 @@ def call_fits(house, arguments, rows):
     return [0] + [member.number for member in fitting_members(house, arguments[0], arguments[1])]
 
 
+# Nobody else's roster changes when a member gets the leg, so those who
+# fit at first are, one behind the other, the first who fit each time.
+def fill_rank(house, leg, rank):
+    takers = fitting_members(house, leg, rank)[:missing_in(house, leg, rank)]
+    for member in takers:
+        member.legs.append(leg)
+    return [member.number for member in takers]
+
+
+def call_fill(house, arguments, rows):
+    filled = [0]
+    for rank in RANKS:
+        filled.extend(fill_rank(house, arguments[0], rank))
+    return filled
+
+
+def call_flying(house, arguments, rows):
+    return [0, flown_from(arguments[0].legs, arguments[1], arguments[2])]
+
+
+def call_worst(house, arguments, rows):
+    return [0, most_flown(arguments[0].legs, arguments[1])]
+
+
+def call_roster(house, arguments, rows):
+    return [0] + [leg.place for leg in in_order(arguments[0].legs)]
+
+
+def duties_of(house, member):
+    return cut_duties(house.rules, in_order(member.legs))
+
+
+def call_duties(house, arguments, rows):
+    told = [0]
+    for duty in duties_of(house, arguments[0]):
+        told.extend([duty.begin, duty.end, len(duty.legs), minutes_of(duty.legs)])
+    return told
+
+
+def call_open(house, arguments, rows):
+    told = [0]
+    for leg in house.legs:
+        missing = [missing_in(house, leg, rank) for rank in RANKS]
+        if any(missing):
+            told.extend([leg.place] + missing)
+    return told
+
+
+def call_run(house, arguments, rows):
+    return [0, longest_run(duties_of(house, arguments[0]))]
+
+
+def call_shown(house, arguments, rows):
+    leg = arguments[0]
+    holders = [holders_of(house, leg, rank) for rank in RANKS]
+    return [0, leg.origin, leg.to, leg.dep, leg.arr] + leg.needs + holders
+
+
 # By the calls' places.
 CALLS = (
     call_rules,
@@ -167,6 +232,14 @@ CALLS = (
     call_swap,
     call_delay,
     call_fits,
+    call_fill,
+    call_flying,
+    call_worst,
+    call_roster,
+    call_duties,
+    call_open,
+    call_run,
+    call_shown,
 )
 
 

@@ -9,6 +9,7 @@ RANGES = {
     "airport": (0, 17575),
     "rank": (0, 2),
     "moment": (0, 10000000),
+    "span": (0, 10000000),
     "shift": (-1440, 1440),
     "turn": (0, 300),
     "gap": (300, 1440),
@@ -32,10 +33,18 @@ ARGUMENTS = (
     ("member", "member", "moment"),
     ("leg", "shift"),
     ("leg", "rank"),
+    ("leg",),
+    ("member", "moment", "span"),
+    ("member", "span"),
+    ("member",),
+    ("member",),
+    (),
+    ("member",),
+    ("leg",),
 )
 
-# For each call, by its place: its rows.
-ROWS = (("longest", "windows"), ("needs",), (), (), (), (), (), (), ())
+# For each call that has rows, by its place: what they are.
+ROWS = {0: ("longest", "windows"), 1: ("needs",)}
 
 ROW_LENGTHS = {"longest": (8,), "windows": (0, 2, 4, 6, 8), "needs": (3,)}
 
@@ -68,11 +77,15 @@ class Reader:
         return self.take(1)[0]
 
 
+def row_names(place):
+    return ROWS.get(place, ())
+
+
 def read_call(reader):
     place = reader.take_one()
     arguments = reader.take(len(ARGUMENTS[place]))
     rows = []
-    for name in ROWS[place]:
+    for name in row_names(place):
         many = reader.take_one()
         rows.append(reader.take(many))
     return Call(place, arguments, rows)
@@ -96,5 +109,5 @@ def is_row_right(name, row):
 
 def is_call_right(call):
     plain = [is_within(sort, number) for sort, number in zip(argument_sorts(call), call.arguments)]
-    rows = [is_row_right(name, row) for name, row in zip(ROWS[call.place], call.rows)]
+    rows = [is_row_right(name, row) for name, row in zip(row_names(call.place), call.rows)]
     return all(plain) and all(rows)

@@ -26,6 +26,11 @@ def flown_before(legs, points):
     return differences(since_departures, since_arrivals)
 
 
+def flown_from(legs, t, w):
+    flown = flown_before(legs, [t, t + w])
+    return flown[1] - flown[0]
+
+
 def most_flown(legs, w):
     # A window that slides on can only turn from gaining to losing where it begins
     # with a departure or ends with an arrival, so no other beginnings need a look.

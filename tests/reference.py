@@ -10,7 +10,22 @@ RANGES = {
     6: [(1, 1000000000), (1, 1000000000), (0, 10000000)],
     7: [(1, 60), (-1440, 1440)],
     8: [(1, 60), (0, 2)],
+    9: [(1, 60)],
+    10: [(1, 1000000000), (0, 10000000), (0, 10000000)],
+    11: [(1, 1000000000), (0, 10000000)],
+    12: [(1, 1000000000)],
+    13: [(1, 1000000000)],
+    14: [],
+    15: [(1, 1000000000)],
+    16: [(1, 60)],
 }
+
+NAMES = ["rules", "leg", "member", "assign", "unassign", "check", "swap", "delay", "fits", "fill", "flying", "worst",
+         "roster", "duties", "open", "run", "shown"]
+
+# How many plain arguments of each call are ids, and then how many are places of legs.
+NAMED = {3: (1, 1), 4: (1, 1), 5: (1, 0), 6: (2, 0), 7: (0, 1), 8: (0, 1), 9: (0, 1), 10: (1, 0), 11: (1, 0),
+         12: (1, 0), 13: (1, 0), 15: (1, 0), 16: (0, 1)}
 
 
 def outside(place, plain, rows):
@@ -46,24 +61,25 @@ class Reference:
             if earlier is None or one["dep"] >= earlier["arr"] + self.plain[1]:
                 cuts.append([])
             cuts[-1].append(one)
-        return [(max(0, c[0]["dep"] - self.plain[2]), c[-1]["arr"] + self.plain[3], len(c)) for c in cuts]
+        return [(max(0, c[0]["dep"] - self.plain[2]), c[-1]["arr"] + self.plain[3], len(c),
+                 sum(one["arr"] - one["dep"] for one in c)) for c in cuts]
 
-    def flown_too_much(self, roster, w, most):
+    def worst(self, roster, w):
         """By every minute at which a window may begin."""
         latest = max([one["arr"] for one in roster], default=0)
+        w = min(w, latest)
         busy = [0] * (latest + w + 2)
         for one in roster:
             for minute in range(one["dep"], one["arr"]):
                 busy[minute] += 1
-        now = sum(busy[:w])
+        now = most = sum(busy[:w])
         for t in range(latest + 1):
-            if now > most:
-                return True
             now += busy[t + w] - busy[t]
-        return False
+            most = max(most, now)
+        return most
 
     def run(self, duties):
-        touched = {day for begin, end, many in duties for day in range(begin // 1440, (end - 1) // 1440 + 1)}
+        touched = {day for begin, end, *rest in duties for day in range(begin // 1440, (end - 1) // 1440 + 1)}
         best = 0
         for day in touched:
             many = 0
@@ -81,13 +97,13 @@ class Reference:
         yield from ((1, k + 1) for k, one in enumerate(roster) if one["from"] != where[k])
         yield from ((2, k + 1) for k in range(1, len(roster))
                     if roster[k]["dep"] < roster[k - 1]["arr"] + self.plain[0])
-        yield from ((3, k + 1) for k, (begin, end, many) in enumerate(duties)
+        yield from ((3, k + 1) for k, (begin, end, many, minutes) in enumerate(duties)
                     if many > 8 or end - begin > self.longest[many - 1])
         for k in range(1, len(duties)):
-            begin, end, many = duties[k - 1]
+            begin, end, many, minutes = duties[k - 1]
             if duties[k][0] < end + max(self.plain[4], end - begin):
                 yield (4, k + 1)
-        yield from ((5, k + 1) for k, (w, most) in enumerate(self.windows) if self.flown_too_much(roster, w, most))
+        yield from ((5, k + 1) for k, (w, most) in enumerate(self.windows) if self.worst(roster, w) > most)
         if self.run(duties) > self.plain[5]:
             yield (6, self.run(duties))
 
@@ -103,14 +119,15 @@ class Reference:
     def call(self, place, plain, rows):
         if outside(place, plain, rows):
             return [-2]
-        ids = {3: plain[:1], 4: plain[:1], 5: plain[:1], 6: plain[:2]}.get(place, [])
-        if any(number not in [who for who, base, rank in self.people] for number in ids):
+        ids, places = NAMED.get(place, (0, 0))
+        if any(number not in [who for who, base, rank in self.people] for number in plain[:ids]):
             return [-3]
-        places = {3: plain[1:], 4: plain[1:], 7: plain[:1], 8: plain[:1]}.get(place, [])
-        if any(p > len(self.legs) for p in places):
+        if any(p > len(self.legs) for p in plain[ids:ids + places]):
             return [-7]
-        names = ["rules", "leg", "member", "assign", "unassign", "check", "swap", "delay", "fits"]
-        return getattr(self, "do_" + names[place])(*plain, *rows)
+        return getattr(self, "do_" + NAMES[place])(*plain, *rows)
+
+    def holders(self, p, rank):
+        return len([who for who, q in self.pairs if q == p and self.rank(who) == rank])
 
     def do_rules(self, turn, gap, before, after, rest, days, longest, windows):
         if longest != sorted(longest, reverse=True):
@@ -125,8 +142,9 @@ class Reference:
             return [-5]
         if len(self.legs) == 60:
             return [-6]
-        self.legs.append({"from": origin, "to": to, "dep": dep, "arr": arr, "needs": needs})
-        return [0, len(self.legs)]
+        place = len(self.legs) + 1
+        self.legs.append({"place": place, "from": origin, "to": to, "dep": dep, "arr": arr, "needs": needs})
+        return [0, place]
 
     def do_member(self, number, base, rank):
         if number in [who for who, base, rank in self.people]:
@@ -140,7 +158,7 @@ class Reference:
         if (number, p) in self.pairs:
             return [-8]
         rank = self.rank(number)
-        if len([who for who, q in self.pairs if q == p and self.rank(who) == rank]) >= self.legs[p - 1]["needs"][rank]:
+        if self.holders(p, rank) >= self.legs[p - 1]["needs"][rank]:
             return [-9]
         kind = self.fault(number, self.pairs | {(number, p)})[0]
         if kind:
@@ -186,3 +204,40 @@ class Reference:
                 minutes = sum(one["arr"] - one["dep"] for one in self.roster(who, self.pairs))
                 fitting.append((minutes, who))
         return [0] + [who for minutes, who in sorted(fitting)]
+
+    def do_fill(self, p):
+        got = []
+        for rank in range(3):
+            while self.holders(p, rank) < self.legs[p - 1]["needs"][rank] and len(self.do_fits(p, rank)) > 1:
+                got.append(self.do_fits(p, rank)[1])
+                self.pairs.add((got[-1], p))
+        return [0] + got
+
+    def do_flying(self, number, t, w):
+        roster = self.roster(number, self.pairs)
+        return [0, sum(max(0, min(one["arr"], t + w) - max(one["dep"], t)) for one in roster)]
+
+    def do_worst(self, number, w):
+        return [0, self.worst(self.roster(number, self.pairs), w)]
+
+    def do_roster(self, number):
+        return [0] + [one["place"] for one in self.roster(number, self.pairs)]
+
+    def do_duties(self, number):
+        return [0] + [told for duty in self.duties(self.roster(number, self.pairs)) for told in duty]
+
+    def do_open(self):
+        told = [0]
+        for p, one in enumerate(self.legs, start=1):
+            missing = [max(0, one["needs"][rank] - self.holders(p, rank)) for rank in range(3)]
+            if missing != [0, 0, 0]:
+                told += [p] + missing
+        return told
+
+    def do_run(self, number):
+        return [0, self.run(self.duties(self.roster(number, self.pairs)))]
+
+    def do_shown(self, p):
+        one = self.legs[p - 1]
+        return [0, one["from"], one["to"], one["dep"], one["arr"], *one["needs"]] + [
+            self.holders(p, rank) for rank in range(3)]

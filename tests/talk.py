@@ -42,6 +42,39 @@ def fits(place, rank):
     return [8, place, rank]
 
 
+def fill(place):
+    return [9, place]
+
+
+def flying(number, t, w):
+    return [10, number, t, w]
+
+
+def worst(number, w):
+    return [11, number, w]
+
+
+def roster(number):
+    return [12, number]
+
+
+def duties(number):
+    return [13, number]
+
+
+def unmet():
+    """The call that the document names open."""
+    return [14]
+
+
+def run(number):
+    return [15, number]
+
+
+def shown(place):
+    return [16, place]
+
+
 def split(flat):
     """The answers, one list a call."""
     told = []
@@ -70,6 +103,11 @@ def hops(times, start=0):
     return [leg((start + k) % 2, (start + k + 1) % 2, dep, arr) for k, (dep, arr) in enumerate(times)]
 
 
+def crew(*ranks):
+    """Members 1, 2, 3, ... at base 0, of these ranks."""
+    return [member(number, 0, rank) for number, rank in enumerate(ranks, start=1)]
+
+
 def flier(times, number=1, base=0):
     """A member who has hops at these times, under the rules of the beginning, with no word refused."""
     calls = hops(times) + [member(number, base)]
@@ -77,14 +115,40 @@ def flier(times, number=1, base=0):
     return calls
 
 
+def lapped(spans):
+    """A member 1 who has legs at these (dep, arr), which may overlap.
+
+    Overlapping legs aren't given to anybody, so each leg is told two days behind the one before and then moved.
+    """
+    calls = flier([(dep + 2880 * k, arr + 2880 * k) for k, (dep, arr) in enumerate(spans)])
+    return calls + [delay(k + 1, -1440) for k in range(len(spans)) for half in range(2 * k)]
+
+
+def must_be_granted(calls, told):
+    for call, answer in zip(calls, told):
+        if answer[0] != 0:
+            raise AssertionError(f"call {call} is refused: {answer}")
+
+
+def granted(*calls):
+    """What the last of these calls tells behind its 0; none of them may be refused."""
+    told = ask(*calls)
+    must_be_granted(calls, told)
+    return told[-1][1:]
+
+
 def fault(times, *then):
     """Kind and number of the fault of a member with hops at these times, behind other calls."""
     calls = flier(times)
     told = ask(*calls, *then, check(1))
-    for k, answer in enumerate(told[:len(calls)]):
-        if answer[0] != 0:
-            raise AssertionError(f"call {calls[k]} is refused: {answer}")
+    must_be_granted(calls, told)
     return told[-1][1:]
+
+
+def at_member_edges(asked):
+    """What is answered first for the ids -1, 0, 1, 2, 999999999, 1000000000, 1000000001; there are 1 and 1000000000."""
+    ids = (-1, 0, 1, 2, 999999999, 1000000000, 1000000001)
+    return [answer[0] for answer in ask(member(1), member(1000000000), *[asked(number) for number in ids])[2:]]
 
 
 def has(number, place):

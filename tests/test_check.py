@@ -2,7 +2,7 @@
 
 import unittest
 
-from tests.talk import ask, assign, check, delay, fault, flier, hops, last, leg, member, rules, unassign
+from tests.talk import ask, assign, check, delay, fault, flier, last, leg, member, rules, unassign
 
 
 def falling(*firsts):

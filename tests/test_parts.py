@@ -1,4 +1,4 @@
-"""Duties, windows and the run where legs overlap: a call tells an earlier kind of fault there."""
+"""The functions for duties, windows and the run, by themselves: legs that overlap, and duties of many days."""
 
 import unittest
 

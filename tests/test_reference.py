@@ -3,8 +3,9 @@
 import random
 import unittest
 
-from tests.reference import Reference
-from tests.talk import ask, assign, check, delay, fits, leg, member, rules, swap, unassign
+from tests.reference import RANGES, Reference
+from tests.talk import (ask, assign, check, delay, duties, fill, fits, flying, leg, member, roster, rules, run, shown,
+                        swap, unassign, unmet, worst)
 
 IDS = (3, 1, 8, 5, 2, 1000000000)
 
@@ -29,10 +30,22 @@ def drawn_leg(draw):
     return leg(origin, to, dep, dep + draw.choice((50, 60, 100, 150, 200, 400, 1200)), needs)
 
 
+def drawn_question(draw):
+    number = draw.choice(IDS)
+    w = draw.choice((0, 1, 60, 300, 777, 1440, 5000, 10000000))
+    return draw.choice((
+        flying(number, draw.randrange(0, 14000), w), worst(number, w), roster(number), duties(number), unmet(),
+        run(number), shown(draw.randrange(1, 22))))
+
+
 def drawn_call(draw):
     number = draw.choice(IDS)
     place = draw.randrange(1, 22)
     kind = draw.random()
+    if draw.random() < 0.35:
+        return drawn_question(draw)
+    if draw.random() < 0.1:
+        return fill(place)
     if kind < 0.4:
         return assign(number, place)
     if kind < 0.5:
@@ -55,6 +68,8 @@ def drawn_call(draw):
 def spoilt(draw, call):
     """The call with one number, not its place nor a row's length, moved out of where it was."""
     free = {0: list(range(1, 7)), 1: list(range(1, 5))}.get(call[0], list(range(1, len(call))))
+    if not free:
+        return call
     call = list(call)
     call[draw.choice(free)] = draw.choice((-1, 0, 61, 17576, 1000000001, 10 ** 12, -10 ** 12))
     return call
@@ -68,7 +83,7 @@ def drawn_line(seed):
     # Legs that are offered by their dep make longer rosters than legs at random.
     by_dep = sorted(range(1, 21), key=lambda place: calls[place - 1][3])
     calls += [assign(number, place) for place in by_dep for number in IDS[:5] if draw.random() < 0.6]
-    for k in range(110):
+    for k in range(170):
         call = drawn_call(draw)
         calls.append(spoilt(draw, call) if draw.random() < 0.04 else call)
     return calls
@@ -76,7 +91,7 @@ def drawn_line(seed):
 
 def parts(call):
     """The plain arguments and the rows of a flat call."""
-    plain = {0: 6, 1: 4, 2: 3, 3: 2, 4: 2, 5: 1, 6: 3, 7: 2, 8: 2}[call[0]]
+    plain = len(RANGES[call[0]])
     rows = []
     at = 1 + plain
     while at < len(call):
@@ -101,6 +116,8 @@ class AgainstTheReference(unittest.TestCase):
             self.assertIn((place, number, None), seen)
         for kind in range(7):
             self.assertIn((5, 0, kind), seen)
+        for place in range(17):
+            self.assertIn((place, 0, 1 if place == 5 else None), seen)
 
 
 if __name__ == "__main__":
